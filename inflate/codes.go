@@ -5,35 +5,14 @@ import (
 
 	"montage/api"
 	"montage/prefix"
+	"montage/shape"
 )
-
-// How many bits the three numbers have with which a block of kind 2 begins, and what
-// each of them is less than what it tells.
-const (
-	symbolsBits    = 5
-	distancesBits  = 5
-	firstBits      = 4
-	leastSymbols   = 257
-	leastDistances = 1
-	leastFirst     = 4
-)
-
-// How many lengths such a block may tell, though the numbers have room for more.
-const (
-	mostSymbols   = 286
-	mostDistances = 30
-)
-
-const firstLengthBits = 3
 
 // The symbols of the first code that aren't lengths; behind these comes 18, of more zeros.
 const (
 	again    = 16 // the length ahead once more
 	fewZeros = 17
 )
-
-// firstOrder is the order in which the first code's lengths stand.
-var firstOrder = [...]int{16, 17, 18, 0, 8, 7, 9, 6, 10, 5, 11, 4, 12, 3, 13, 2, 14, 1, 15}
 
 // codes are those by which a block's symbols, and their distances, are told.
 type codes struct {
@@ -53,33 +32,23 @@ func newCodes(symbols, distances []int) (codes, api.Errno) {
 	return codes{bySymbol, byDistance}, api.OK
 }
 
-// fixedCodes answers the codes of all blocks of kind 1. Both are full ones: no error comes of them.
-func (d *stream) fixedCodes() codes {
-	if d.fixed.symbols == nil {
-		d.fixed, _ = newCodes(fixedSymbols(), slices.Repeat([]int{5}, 32))
+// plainCodes answers the codes of all blocks of kind 1. Both are full ones: no error comes of them.
+func (d *stream) plainCodes() codes {
+	if d.plain.symbols == nil {
+		d.plain, _ = newCodes(shape.PlainSymbols(), shape.PlainDistances())
 	}
-	return d.fixed
-}
-
-// fixedSymbols answers the lengths of symbols in blocks of kind 1.
-func fixedSymbols() []int {
-	return slices.Concat(
-		slices.Repeat([]int{8}, 144),
-		slices.Repeat([]int{9}, 112),
-		slices.Repeat([]int{7}, 24),
-		slices.Repeat([]int{8}, 8),
-	)
+	return d.plain
 }
 
 // ownCodes reads the codes that a block of kind 2 brings along.
 func (d *stream) ownCodes() (codes, api.Errno) {
-	symbols := leastSymbols + int(d.source.Bits(symbolsBits))
-	distances := leastDistances + int(d.source.Bits(distancesBits))
-	firsts := leastFirst + int(d.source.Bits(firstBits))
+	symbols := shape.LeastSymbols + int(d.source.Bits(shape.SymbolsBits))
+	distances := shape.LeastDistances + int(d.source.Bits(shape.DistancesBits))
+	firsts := shape.LeastFirsts + int(d.source.Bits(shape.FirstsBits))
 	if err := d.source.Err(); err != api.OK {
 		return codes{}, err
 	}
-	if symbols > mostSymbols || distances > mostDistances {
+	if symbols > shape.MostSymbols || distances > shape.MostDistances {
 		return codes{}, api.ErrForm
 	}
 	first, err := d.firstCode(firsts)
@@ -90,7 +59,7 @@ func (d *stream) ownCodes() (codes, api.Errno) {
 	if err != api.OK {
 		return codes{}, err
 	}
-	if row[blockEnd] == 0 {
+	if row[shape.BlockEnd] == 0 {
 		return codes{}, api.ErrForm
 	}
 	return newCodes(row[:symbols], row[symbols:])
@@ -99,14 +68,15 @@ func (d *stream) ownCodes() (codes, api.Errno) {
 // firstCode reads the code by which the lengths of the two others are told. An empty one
 // isn't asked for here: a row has lengths, and the first of them gets ErrCode of its table.
 func (d *stream) firstCode(n int) (*prefix.Table, api.Errno) {
-	lengths := make([]int, len(firstOrder))
-	for i := range n {
-		lengths[firstOrder[i]] = int(d.source.Bits(firstLengthBits))
+	var lengths [shape.FirstSymbols]int
+	order := shape.FirstOrder()
+	for _, symbol := range order[:n] {
+		lengths[symbol] = int(d.source.Bits(shape.FirstLengthBits))
 	}
 	if err := d.source.Err(); err != api.OK {
 		return nil, err
 	}
-	return prefix.New(lengths)
+	return prefix.New(lengths[:])
 }
 
 // row reads n lengths by the first code.
