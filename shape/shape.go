@@ -18,6 +18,9 @@ const (
 	BlockEnd   = 256
 )
 
+// MostStored is how many bytes a block of kind 0 says at most.
+const MostStored = 1<<StoredBits - 1
+
 // How many bits the three numbers have with which a block of kind 2 begins, and what
 // each of them is less than what it tells.
 const (
