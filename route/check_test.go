@@ -5,6 +5,7 @@ import (
 	"testing"
 
 	"montage/api"
+	"montage/probe"
 	"montage/route"
 )
 
@@ -137,7 +138,7 @@ func TestCheckOfEachCodePoint(t *testing.T) {
 	for code := range 0x200000 {
 		may := code >= 32 && code != 127 && code != '\\' && code != '/' && code != '.' &&
 			(code < 0xD800 || code > 0xDFFF) && code <= 0x10FFFF
-		p := formOf(code, shortest(code))
+		p := probe.Form(code, probe.Shortest(code))
 		if route.Check(p) == api.OK != may {
 			t.Fatalf("code point %X: may be is %v", code, !may)
 		}
@@ -150,7 +151,7 @@ func TestCheckOfEdgesOfCodePoints(t *testing.T) {
 		0xDC00: false, 0xDFFF: false, 0xE000: true, 0xFFFD: true, 0xFFFE: true, 0xFFFF: true, 0x10000: true, 0x10FFFF: true,
 		0x110000: false, 0x13FFFF: false, 0x140000: false, 0x1FFFFF: false,
 	} {
-		c := formOf(code, shortest(code))
+		c := probe.Form(code, probe.Shortest(code))
 		for _, part := range []string{c, c + c, "a" + c, c + "a", "a" + c + "b", "é" + c + "漢"} {
 			for _, p := range spots(part) {
 				holdCheck(t, p, may)
@@ -158,13 +159,13 @@ func TestCheckOfEdgesOfCodePoints(t *testing.T) {
 		}
 	}
 	// Two of D800 to DFFF together, which would say 10000 in another form, may not be either.
-	holdCheck(t, formOf(0xD800, 3)+formOf(0xDC00, 3), false)
+	holdCheck(t, probe.Form(0xD800, 3)+probe.Form(0xDC00, 3), false)
 }
 
 func TestCheckOfLongerForms(t *testing.T) {
 	for n := 2; n <= 4; n++ {
-		for code := range leastBy[n] {
-			if route.Check(formOf(code, n)) != api.ErrPath || route.Check("a"+formOf(code, n)+"b") != api.ErrPath {
+		for code := range probe.Least(n) {
+			if route.Check(probe.Form(code, n)) != api.ErrPath || route.Check("a"+probe.Form(code, n)+"b") != api.ErrPath {
 				t.Fatalf("code point %X may be in %d bytes", code, n)
 			}
 		}
@@ -178,7 +179,7 @@ func TestCheckOfLongerForms(t *testing.T) {
 
 func TestCheckOfCutCodePoints(t *testing.T) {
 	for _, code := range []int{0x80, 0x7FF, 0x800, 0xFFFF, 0x10000, 0x10FFFF} {
-		whole := formOf(code, shortest(code))
+		whole := probe.Form(code, probe.Shortest(code))
 		for n := 1; n < len(whole); n++ {
 			for _, cut := range []string{whole[:n], whole[n:]} {
 				for _, part := range []string{cut, "a" + cut, cut + "a", "é" + cut, cut + "é", cut + whole, whole + cut} {
@@ -202,7 +203,7 @@ func TestCheckAgainstTheWords(t *testing.T) {
 			}
 		}
 	}
-	for _, p := range textsOf(7, "a", ".", "/", "é", "\x80") {
+	for _, p := range probe.Texts(7, "a", ".", "/", "é", "\x80") {
 		holdCheck(t, p, mayBeBy(p))
 	}
 }
@@ -224,12 +225,12 @@ func TestCheckOfThreeAndFourBytesAgainstTheWords(t *testing.T) {
 }
 
 func TestCheckByChance(t *testing.T) {
-	c := chance(13)
+	c := probe.Chance(13)
 	long := []string{x(30), x(100), x(254), "é", "/", "/", "/", "a", "."}
 	short := []string{"a", "b", "/", "/", ".", "é", "漢", "😀", " ", "\x80", "\xe6\xbc", "\\", "\x1f"}
 	mays := 0
 	for range 20000 {
-		p, q := c.text(40, long), c.text(8, short)
+		p, q := c.Text(40, long), c.Text(8, short)
 		holdCheck(t, p, mayBeBy(p))
 		holdCheck(t, q, mayBeBy(q))
 		if mayBeBy(p) || mayBeBy(q) {

@@ -5,6 +5,7 @@ import (
 	"strings"
 	"testing"
 
+	"montage/probe"
 	"montage/route"
 )
 
@@ -82,17 +83,17 @@ func TestCompareAgainstTheWords(t *testing.T) {
 }
 
 func TestCompareByChance(t *testing.T) {
-	c := chance(1301)
+	c := probe.Chance(1301)
 	letters := []string{"a", "b", "/", "/", ".", "-", "\x00", "é", "\xff"}
 	for range 50000 {
-		same := c.text(6, letters)
-		a, b := same+c.text(5, letters), same+c.text(5, letters)
+		same := c.Text(6, letters)
+		a, b := same+c.Text(5, letters), same+c.Text(5, letters)
 		holdCompare(t, a, b, orderBy(partsBy(a), partsBy(b)))
 	}
 }
 
 func TestOrderOfThreeIsOne(t *testing.T) {
-	texts := textsOf(3, "a", "/", "-", ".")
+	texts := probe.Texts(3, "a", "/", "-", ".")
 	for _, a := range texts {
 		for _, b := range texts {
 			if route.Compare(a, b) != -route.Compare(b, a) {
@@ -132,15 +133,15 @@ func holdNextAreUnder(t *testing.T, row []string) {
 }
 
 func TestNothingElseStandsBetween(t *testing.T) {
-	texts := textsOf(5, "a", "/", "-", "b")
+	texts := probe.Texts(5, "a", "/", "-", "b")
 	slices.SortFunc(texts, route.Compare)
 	holdNextAreUnder(t, texts)
 
-	c := chance(7)
+	c := probe.Chance(7)
 	letters := strings.Split("a b / / / . - é ~", " ")
 	var some []string
 	for range 1000 {
-		some = append(some, c.text(9, letters))
+		some = append(some, c.Text(9, letters))
 	}
 	slices.SortFunc(some, route.Compare)
 	holdNextAreUnder(t, slices.Compact(some))

@@ -5,6 +5,7 @@ import (
 	"testing"
 
 	"montage/api"
+	"montage/probe"
 	"montage/route"
 )
 
@@ -121,18 +122,18 @@ func TestNormalOfLongNames(t *testing.T) {
 }
 
 func TestNormalAgainstTheWords(t *testing.T) {
-	for _, name := range append(textsOf(9, "a", ".", "/"), textsOf(6, "b", ".", "/", "é", "\xff", "\\")...) {
+	for _, name := range append(probe.Texts(9, "a", ".", "/"), probe.Texts(6, "b", ".", "/", "é", "\xff", "\\")...) {
 		p, dir, e := normalBy(name)
 		holdNormal(t, name, p, dir, e)
 	}
 }
 
 func TestNormalByChance(t *testing.T) {
-	c := chance(1313)
+	c := probe.Chance(1313)
 	letters := []string{x(100), x(255), "/", "/", "/./", "//", "/", "a", "é/", ".", "."}
 	mays := 0
 	for range 20000 {
-		name := c.text(30, letters)
+		name := c.Text(30, letters)
 		p, dir, e := normalBy(name)
 		holdNormal(t, name, p, dir, e)
 		if e == api.OK && len(p) < len(name) {

@@ -5,6 +5,7 @@ import (
 	"strings"
 	"testing"
 
+	"montage/probe"
 	"montage/route"
 )
 
@@ -116,7 +117,7 @@ func TestUnder(t *testing.T) {
 }
 
 func TestTextsAgainstTheWords(t *testing.T) {
-	for _, p := range textsOf(7, "a", "/", "\xff", ".") {
+	for _, p := range probe.Texts(7, "a", "/", "\xff", ".") {
 		l := partsBy(p)
 		holdParts(t, p, l...)
 		last := len(l) - 1
@@ -149,13 +150,13 @@ func TestTwoTextsAgainstTheWords(t *testing.T) {
 }
 
 func TestUnderByChance(t *testing.T) {
-	c := chance(31)
+	c := probe.Chance(31)
 	letters := []string{"a", "b", "/", "/", "é", "\x00", "//"}
 	unders := 0
 	for range 50000 {
-		dir := c.text(6, letters)
-		p := c.text(12, letters)
-		if c.below(2) == 0 {
+		dir := c.Text(6, letters)
+		p := c.Text(12, letters)
+		if c.Below(2) == 0 {
 			p = dir + p
 		}
 		want := underBy(partsBy(p), partsBy(dir))

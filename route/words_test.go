@@ -1,6 +1,9 @@
 package route_test
 
-import "montage/api"
+import (
+	"montage/api"
+	"montage/probe"
+)
 
 // partsBy answers what stands between bytes / , as the chapter says it.
 func partsBy(p string) []string {
@@ -49,68 +52,16 @@ func mayBeBy(p string) bool {
 	return isTextBy(p)
 }
 
-// leastBy is the least code point that needs a form of so many bytes.
-var leastBy = []int{0, 0, 0x80, 0x800, 0x10000}
-
 // isTextBy tells whether p is UTF-8, read bit by bit.
 func isTextBy(p string) bool {
-	for len(p) > 0 {
-		n, code := ledBy(p[0])
-		if n == 0 || n > len(p) {
-			return false
-		}
-		for i := 1; i < n; i++ {
-			if p[i]>>6 != 0b10 {
-				return false
-			}
-			code = code<<6 + int(p[i]&0b111111)
-		}
-		if code < leastBy[n] || code >= 0xD800 && code <= 0xDFFF || code > 0x10FFFF {
+	for p != "" {
+		_, n := probe.First(p)
+		if n == 0 {
 			return false
 		}
 		p = p[n:]
 	}
 	return true
-}
-
-// ledBy answers how many bytes a code point has that begins with c (0 if none does), and
-// the bits of it that c holds.
-func ledBy(c byte) (int, int) {
-	switch {
-	case c>>7 == 0:
-		return 1, int(c)
-	case c>>5 == 0b110:
-		return 2, int(c & 0b11111)
-	case c>>4 == 0b1110:
-		return 3, int(c & 0b1111)
-	case c>>3 == 0b11110:
-		return 4, int(c & 0b111)
-	}
-	return 0, 0
-}
-
-// formOf answers a code point in a form of n bytes, whether it needs as many or not.
-func formOf(code, n int) string {
-	if n == 1 {
-		return string([]byte{byte(code)})
-	}
-	l := make([]byte, n)
-	for i := n - 1; i > 0; i-- {
-		l[i] = 0b10<<6 | byte(code&0b111111)
-		code >>= 6
-	}
-	l[0] = byte(0xFF<<(8-n)) | byte(code)
-	return string(l)
-}
-
-// shortest answers how many bytes a code point needs.
-func shortest(code int) int {
-	for n := 4; n > 1; n-- {
-		if code >= leastBy[n] {
-			return n
-		}
-	}
-	return 1
 }
 
 // normalBy answers the path of a name, and whether it is a directory's, as the chapter
@@ -165,49 +116,15 @@ func orderBy(a, b []string) int {
 	return 1
 }
 
-// textsOf answers all texts of at most n letters.
-func textsOf(n int, letters ...string) []string {
-	all := []string{""}
-	last := all
-	for range n {
-		var more []string
-		for _, text := range last {
-			for _, letter := range letters {
-				more = append(more, text+letter)
-			}
-		}
-		all = append(all, more...)
-		last = more
-	}
-	return all
-}
-
 // textsApart answers all texts of at most five letters, among them bytes below and above
 // that of / , and what stands between bytes / in each.
 func textsApart() ([]string, [][]string) {
-	texts := textsOf(5, "a", "/", "-", "\xff")
+	texts := probe.Texts(5, "a", "/", "-", "\xff")
 	parts := make([][]string, len(texts))
 	for i, text := range texts {
 		parts[i] = partsBy(text)
 	}
 	return texts, parts
-}
-
-// chance makes numbers that look like chance, the same ones each time.
-type chance uint64
-
-func (c *chance) below(n int) int {
-	*c = *c*6364136223846793005 + 1442695040888963407
-	return int(*c>>33) % n
-}
-
-// text answers up to most letters by chance.
-func (c *chance) text(most int, letters []string) string {
-	s := ""
-	for range c.below(most + 1) {
-		s += letters[c.below(len(letters))]
-	}
-	return s
 }
 
 // spots puts a part alone, first, within and last in a path.
